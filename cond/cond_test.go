@@ -18,7 +18,7 @@ func TestOn(t *testing.T) {
 	for tag, want := range map[string]bool{
 		"linux": true, "amd64": true, "gc": true, "unix": true, "cgo": false, "x": true, "y.1": true, "z": false, "windows": true, "darwin": false, "": false, "arm": false, "Linux": false,
 		"go1.0": true, "go1.1": true, "go1.9": true, "go1.20": true, "go1.21": true, "go1.22": false, "go1.99": true, "go1.021": false, "go1.00": false, "go1.": false, "go1": false, "go1.2a": false, "go1.+2": false,
-		"go1.-1": false, "go1.21.0": false, "go2.1": false, "Go1.1": false, "go1. 1": false, "go1.10000": false, "go1.00001": false, "gccgo": false, "!x": false,
+		"go1.-1": false, "go1.21.0": false, "go2.1": false, "Go1.1": false, "go1. 1": false, "go1.10000": false, "go1.00001": false, "gccgo": false, "!x": false, "21": false, "1": false, "0": false, "1.1": false,
 	} {
 		if On(linux, tag) != want {
 			t.Errorf("linux: %q: %v", tag, !want)

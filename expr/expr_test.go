@@ -12,7 +12,7 @@ import (
 
 // P13.1: what is a tag.
 func TestTag(t *testing.T) {
-	for _, s := range []string{"a", "Z", "0", "9", "_", ".", "go1.21", "x_y.Z0", "..."} {
+	for _, s := range []string{"a", "z", "A", "Z", "0", "9", "azAZ09", "_", ".", "go1.21", "x_y.Z0", "..."} {
 		if !Tag(s) {
 			t.Errorf("%q is a tag", s)
 		}

@@ -9,6 +9,7 @@ import (
 	"testing"
 
 	"seiche/api"
+	"seiche/code"
 	"seiche/disk"
 	"seiche/graph"
 	"seiche/kvlog"
@@ -127,7 +128,7 @@ func TestErrors(t *testing.T) {
 		files []api.File
 		e     api.Errno
 	}{
-		{long, files("..", ""), api.ErrArg}, {long[1:], files("a", "x"), api.OK}, {"", nil, api.OK}, {"", files("..", ""), api.ErrArg}, {"", files("a", strings.Repeat("x", api.MaxFile+1)), api.ErrLong},
+		{long, files("..", ""), api.ErrArg}, {long, files("a", strings.Repeat("x", api.MaxFile+1)), api.ErrArg}, {long, nil, api.ErrArg}, {long[1:], files("a", "x"), api.OK}, {"", nil, api.OK}, {"", files("..", ""), api.ErrArg}, {"", files("a", strings.Repeat("x", api.MaxFile+1)), api.ErrLong},
 		{"", make([]api.File, api.MaxFiles+1), api.ErrLong},
 	} {
 		id, e := w.Commit(x.note, x.files...)
@@ -534,6 +535,18 @@ func TestCounts(t *testing.T) {
 	counts(t, "without a cache", bare, 5, 5)
 }
 
+// P23.2: other files in a directory change nothing for those that lie elsewhere, wherever they stand among the files.
+func TestNested(t *testing.T) {
+	w := New(open(t, disk.New(api.MaxRoom), 4096))
+	list := files("go.mod", "module m", "a/b.go", "package b", "a/m/x.go", "package x", "c/c.go", "package c")
+	w.Graph(commit(t, w, list...), linux)
+	counts(t, "first", w, 3, 3)
+	w.Graph(commit(t, w, turned(list, "a/z.txt", "", "a/a", "")...), linux)
+	counts(t, "files about a directory", w, 3, 4)
+	w.Graph(commit(t, w, turned(list, "c/a/z.txt", "", "d/x.txt", "")...), linux)
+	counts(t, "directories without files of the language", w, 3, 5)
+}
+
 // P23.2: each platform has packages of its own; headers are for all.
 func TestPlatforms(t *testing.T) {
 	w := New(open(t, disk.New(api.MaxRoom), 4096))
@@ -625,12 +638,27 @@ func TestTexts(t *testing.T) {
 			}
 		}
 	}
-	for x := range fields(api.Header{Name: "p"}) {
-		if x == "p" {
-			break // a way that is left early comes to an end
+	h := api.Header{Name: "p", Embeds: []string{"e"}, Imports: []api.Import{{Name: "n", Path: "x", At: 3}, {Path: "y"}}}
+	for most := range firstFields + 2*importFields {
+		n := 0
+		for range fields(h) { // a way that is left early comes to an end
+			if n++; n > most {
+				break
+			}
 		}
 	}
-	if _, ok := readParts(partsText(nil) + "x"); ok {
-		t.Error("no parts' text")
+	num, none := code.Num(1), code.Join()
+	for _, s := range []string{
+		"", "x", none, code.Join("n", "b", num, num), code.Join("n", "b", "1", num, none), code.Join("n", "b", num, "1", none), code.Join("n", "b", num, num, "x"), code.Join("n", "b", num, num, none, "i", "p"),
+		code.Join("n", "b", num, num, none, "i", "p", "1"), code.Join("n", "b", num, num, none, "i", "p", num, "x"),
+	} {
+		if h, ok := readHeader(s); ok || h.Name != "" {
+			t.Errorf("%q is no header's text", s)
+		}
+	}
+	for _, s := range []string{"", "x", none + "x", code.Join("x"), code.Join(load.Text(api.Part{}), "")} {
+		if parts, ok := readParts(s); ok || len(parts) != 0 {
+			t.Errorf("%q is no parts' text", s)
+		}
 	}
 }

@@ -189,8 +189,10 @@ func TestErrors(t *testing.T) {
 		t.Error("a source of a nil store")
 	}
 	s, m := world(t, "a.go", "package p")
-	if _, e := Load(nil, m, linux, ""); e != api.ErrNil {
-		t.Error("a nil source")
+	for _, dir := range []string{"", "none"} {
+		if _, e := Load(nil, m, linux, dir); e != api.ErrNil {
+			t.Error("a nil source")
+		}
 	}
 	if _, e := Load(s, nil, linux, ""); e != api.ErrNil {
 		t.Error("a nil map")

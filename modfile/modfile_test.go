@@ -38,6 +38,7 @@ func TestParse(t *testing.T) {
 		"module b.com/x-y_z~1@[]{}!#$%&*+;<?^|\xff:": {Path: "b.com/x-y_z~1@[]{}!#$%&*+;<?^|\xff:"},
 		"module a\nrequire b v1\nexclude c v1\nretract [v1, v2]\ntoolchain go1.21\nrequire x":    mod(0),
 		"module a\nrequire (\n b v1 // indirect\n\n c\n d e f g =>\n require (\n)\nretract v1":   mod(0),
+		"module a\nretract (\nv1\n[v2, v3]\n)\nexclude (\nb v1\n)\nreplace (\n)\ngo 1.5":         mod(5),
 		"module a\nexclude (\n)\nretract(x\n":                                                    {Fault: 4},
 		"module a\nrequire ( x\nrequire (x\nrequire ) (":                                         mod(0),
 		"module a\nreplace b => ./c":                                                             mod(0, "b", "./c"),

@@ -64,7 +64,7 @@ func TestUnder(t *testing.T) {
 		ok           bool
 	}{
 		{"", "", "", false}, {"", "a", "a", true}, {"", "a/b", "a/b", true}, {"a", "a", "", false}, {"a", "a/", "", false}, {"a", "a/b", "b", true},
-		{"a", "a/b/c", "b/c", true}, {"a", "ab/c", "", false}, {"a/b", "a/b/c", "c", true}, {"a/b", "a", "", false}, {"b", "a/b", "", false}, {"a/", "a//b", "b", true},
+		{"a", "a/b/c", "b/c", true}, {"a", "ab/c", "", false}, {"a/b", "a/b/c", "c", true}, {"a/b", "a", "", false}, {"b", "a/b", "", false}, {"a", "/b", "", false}, {"ab", "/b", "", false}, {"a/", "a//b", "b", true},
 	} {
 		got, ok := Under(x.dir, x.p)
 		if ok != x.ok || ok && got != x.want {

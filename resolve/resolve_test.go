@@ -84,6 +84,14 @@ func TestReplaced(t *testing.T) {
 	})
 }
 
+// P18.1: ways that lead out of the tree.
+func TestAbove(t *testing.T) {
+	m := build(t, "go.mod", "module a\nreplace b => ../x\nreplace c => ./x/../..\nreplace d => ./x/..", "f.go", "", "x/f.go", "")
+	for _, dir := range []string{"", "x"} {
+		places(t, m, dir, map[string]string{"b": "miss", "b/x": "miss", "c": "miss", "c/x": "miss", "d": "=", "d/x": "=x"})
+	}
+}
+
 // P18.1: what stands in vendor.
 func TestVendor(t *testing.T) {
 	m := build(t, "go.mod", "module a", "x/f.go", "", "vendor/b.com/q/f.go", "", "vendor/fmt/f.go", "", "vendor/e/f.txt", "", "vendor/f.go", "", "vendor/n/go.mod", "module n", "vendor/n/f.go", "", "vendor/C/f.go", "", "x/vendor/z/f.go", "", "vendor/a/w/f.go", "", "s/go.mod", "module s", "s/f.go", "")

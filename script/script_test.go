@@ -235,6 +235,30 @@ crash 0 0 -> ok
 counts -> 11 12 4
 analyze 1 1 -> 0
 counts -> 11 14 6
+crash 0 0 -> ok
+compact -> ok
+evict 9 -> ok
+analyze 1 1 -> 0
+crash 100000 1 -> ok
+counts -> 13 16 3
+analyze 1 1 -> 0
+counts -> 13 17 4
+crash 100000 0 -> ok
+counts -> 13 17 4
+arm 1 0 0 -> ok
+sync -> error 7
+arm 1 0 0 -> ok
+crash 0 0 -> ok
+sync -> ok
+counts -> 13 17 4
+arm 1 999 1 -> ok
+evict 1 -> error 7
+crash 0 0 -> ok
+counts -> 13 17 4
+arm 1 999 0 -> ok
+evict 1 -> error 7
+crash 0 0 -> ok
+counts -> 13 17 3
 world 100000 1 -> ok
 counts -> 0 0 0
 file a/a.go package_a -> ok
