@@ -152,6 +152,16 @@ func TestErrors(t *testing.T) {
 	if g, e := w.Graph(api.Id{}, linux); e != api.ErrNone || g != nil {
 		t.Errorf("graph: error %d", e)
 	}
+	var deep []api.File
+	for i := range api.MaxFiles {
+		deep = append(deep, api.File{Path: fmt.Sprintf("%d/%sf.go", i, strings.Repeat("d/", 10)), Data: "package p"})
+	}
+	wide := commit(t, w, deep...) // more entries than are gone through
+	hits, e1 := w.Analyze(a, wide, linux)
+	g, e2 := w.Graph(wide, linux)
+	if e1 != api.ErrLong || e2 != api.ErrLong || len(hits) != 0 || g != nil {
+		t.Errorf("errors %d, %d", e1, e2)
+	}
 	if n, k := w.Counts(); n != 0 || k != 0 {
 		t.Errorf("reckoned beside an error: %d, %d", n, k)
 	}
