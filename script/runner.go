@@ -82,7 +82,8 @@ func (r *runner) open() api.Errno {
 // file puts a file behind all others.
 func (r *runner) file(path, data string) string {
 	r.gone(path)
-	r.files = append(r.files, api.File{Path: path, Data: strings.NewReplacer("_", " ", "|", "\n").Replace(data)})
+	data = strings.ReplaceAll(strings.ReplaceAll(data, "_", " "), "|", "\n")
+	r.files = append(r.files, api.File{Path: path, Data: data})
 	return sayDone(api.OK)
 }
 
